@@ -1,0 +1,1 @@
+"""Onestillview: walkers who look, think and step each in its own time, as if in beats."""

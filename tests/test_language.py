@@ -1,0 +1,111 @@
+"""What can be told of the package's files without running them, as its subset of Python asks."""
+
+import ast
+import builtins
+import pathlib
+import unittest
+
+from onestillview import errors
+
+FOLDER = pathlib.Path(errors.__file__).parent
+LIBRARY = ("heapq", "math", "itertools", "collections")
+BUILTINS = (
+    "len range enumerate zip min max sum abs sorted reversed int str bool bytes list tuple dict set frozenset "
+    "isinstance ord repr any all divmod pow getattr hasattr setattr iter next map type super property staticmethod "
+    "classmethod Exception ValueError TypeError KeyError IndexError LookupError ZeroDivisionError ArithmeticError "
+    "OverflowError RuntimeError NotImplementedError AttributeError StopIteration NotImplemented"
+).split(" ")
+AT_THE_TOP = (ast.ImportFrom, ast.FunctionDef, ast.ClassDef, ast.Assign, ast.Expr)
+
+
+def bound_in(tree):
+    """All names that a file gives a meaning."""
+    for part in ast.walk(tree):
+        if isinstance(part, (ast.FunctionDef, ast.ClassDef)):
+            yield part.name
+        elif isinstance(part, ast.arg):
+            yield part.arg
+        elif isinstance(part, ast.alias):
+            yield part.asname or part.name
+        elif isinstance(part, ast.Name) and not isinstance(part.ctx, ast.Load):
+            yield part.id
+
+
+class LanguageTest(unittest.TestCase):
+    def setUp(self):
+        self.texts = {path.name: path.read_text(encoding="utf-8") for path in sorted(FOLDER.glob("*.py"))}
+        self.trees = {name: ast.parse(text) for name, text in self.texts.items()}
+
+    def parts(self, *kinds):
+        """All parts of these kinds, each with its file's name and line."""
+        for name, tree in self.trees.items():
+            for part in ast.walk(tree):
+                if isinstance(part, kinds):
+                    yield part, f"{name}:{part.lineno}"
+
+    def test_the_folder_has_python_files_alone(self):
+        for path in FOLDER.rglob("*"):
+            if "__pycache__" not in path.parts:
+                self.assertTrue(path.is_dir() or path.suffix == ".py", path)
+
+    def test_sizes(self):
+        for name, text in self.texts.items():
+            lines = text.split("\n")
+            self.assertLessEqual(len(lines) - 1, 399, name)
+            for number, line in enumerate(lines, 1):
+                self.assertLessEqual(len(line), 120, f"{name}:{number}")
+        for part, place in self.parts(ast.FunctionDef):
+            self.assertLessEqual(part.end_lineno - part.lineno + 1, 40, place)
+
+    def test_characters(self):
+        for name, text in self.texts.items():
+            self.assertEqual({sign for sign in text if sign != "\n" and not " " <= sign <= "~"}, set(), name)
+
+    def test_files_hold_nothing_but_definitions(self):
+        for name, tree in self.trees.items():
+            for part in tree.body:
+                self.assertIsInstance(part, AT_THE_TOP, f"{name}:{part.lineno}")
+                if isinstance(part, ast.Expr):
+                    self.assertIsInstance(part.value, ast.Constant, f"{name}:{part.lineno}")
+                if isinstance(part, ast.Assign):
+                    calls = [inner for inner in ast.walk(part) if isinstance(inner, ast.Call)]
+                    self.assertEqual((len(part.targets), calls), (1, []), f"{name}:{part.lineno}")
+
+    def test_imports(self):
+        for name, tree in self.trees.items():
+            for part in ast.walk(tree):
+                self.assertNotIsInstance(part, ast.Import, name)
+                if isinstance(part, ast.ImportFrom):
+                    self.assertIn(part.module.split(".")[0], ("onestillview",) + LIBRARY, name)
+                    self.assertEqual(part.level, 0)
+                    self.assertNotIn("*", [alias.name for alias in part.names])
+
+    def test_no_name_of_a_builtin_is_given_another_meaning(self):
+        for name, tree in self.trees.items():
+            for bound in bound_in(tree):
+                self.assertFalse(hasattr(builtins, bound) and not bound.startswith("__"), f"{name}: {bound}")
+
+    def test_no_other_builtin_is_used(self):
+        for part, place in self.parts(ast.Name):
+            if hasattr(builtins, part.id):
+                self.assertIn(part.id, BUILTINS, place)
+
+    def test_what_is_not_in_the_subset(self):
+        barred = (ast.AsyncFunctionDef, ast.Await, ast.AsyncFor, ast.AsyncWith, ast.Div, ast.MatMult)
+        for part, place in self.parts(ast.stmt, ast.expr):
+            self.assertNotIsInstance(part, barred, place)
+            if isinstance(part, ast.BinOp):
+                self.assertNotIsInstance(part.op, barred, place)
+            if isinstance(part, ast.Constant):
+                self.assertNotIsInstance(part.value, (float, complex), place)
+            if isinstance(part, ast.ClassDef):
+                self.assertEqual(part.decorator_list, [], place)
+
+    def test_builtins_take_lists_instead_of_generators(self):
+        for part, place in self.parts(ast.Call):
+            for told in part.args:
+                self.assertNotIsInstance(told, ast.GeneratorExp, place)
+
+
+if __name__ == "__main__":
+    unittest.main()
