@@ -1,6 +1,6 @@
 """What the functions of several files ask of the values that they are passed."""
 
-from onestillview.errors import BadFloor, BadPlace, BadStanding, BadWalker
+from onestillview.errors import BadFloor, BadMany, BadPlace, BadStanding, BadWalker
 
 MOST_MARK = 3
 MOST_WALKERS = 5
@@ -19,6 +19,11 @@ def is_within(value, low, high):
 def is_tuple_of(value, many):
     """Whether it is a tuple with so many entries."""
     return isinstance(value, tuple) and len(value) == many
+
+
+def is_ascending(value):
+    """Whether the entries of this tuple are sorted, none of them twice."""
+    return all([one < other for one, other in zip(value, value[1:])])
 
 
 def is_mark(value):
@@ -61,6 +66,18 @@ def is_standing(floor, value):
     return all([is_placed(floor, entry) for entry in value])
 
 
+def is_lot(many, value):
+    """Whether it is a LOT of so many walkers."""
+    if not isinstance(value, tuple) or len(value) == 0:
+        return False
+    return all([is_within(walker, 0, many - 1) for walker in value]) and is_ascending(value)
+
+
+def are_lots(many, value):
+    """Whether it is LOTS of so many walkers."""
+    return isinstance(value, tuple) and all([is_lot(many, lot) for lot in value])
+
+
 def check_floor(value):
     """Refuses what is no FLOOR."""
     if not is_floor(value):
@@ -83,3 +100,9 @@ def check_walker(standing, value):
     """Refuses what is no number of a walker in this standing."""
     if not is_within(value, 0, len(standing) - 1):
         raise BadWalker(value)
+
+
+def check_many(value):
+    """Refuses what is no number of walkers in a standing."""
+    if not is_within(value, 1, MOST_WALKERS):
+        raise BadMany(value)

@@ -1,7 +1,8 @@
 """Programs: one text for all walkers, which tells a step and a new mark from a VIEW."""
 
-from onestillview.checks import check_floor, check_place, is_integer, is_sense, is_tuple_of, is_within
-from onestillview.errors import BadProgram, BadSense, BadStep, BadView, NoProgram
+from onestillview.checks import check_floor, check_place, check_standing
+from onestillview.checks import is_integer, is_sense, is_tuple_of, is_within
+from onestillview.errors import BadProgram, BadSense, BadStanding, BadStep, BadView, NoProgram
 from onestillview.floors import cells_seen, is_view, place_at
 
 LETTERS = "abcdefghijklmnopqrstuvwxyz"
@@ -252,6 +253,15 @@ def check_program(value):
         raise NoProgram(value)
 
 
+def check_start(program, floor, standing):
+    """Refuses what is no Program, no FLOOR, or no STANDING on it with marks of the program alone."""
+    check_program(program)
+    check_floor(floor)
+    check_standing(floor, standing)
+    if not all([entry[1] < program.marks for entry in standing]):
+        raise BadStanding(standing)
+
+
 def thought(program, floor, view):
     """The (step, mark) that the program tells from this VIEW."""
     check_program(program)
@@ -259,6 +269,12 @@ def thought(program, floor, view):
     if not is_view(floor, view) or not has_marks_of(program, floor, view):
         raise BadView(view)
     return thought_of(program, floor, view)
+
+
+def place_behind(floor, place, sense, step):
+    """The place behind this step of a walker with this sense, the same place if none is there."""
+    reached = place_at(floor, place, sense * step)
+    return place if reached is None else reached
 
 
 def moved(floor, place, sense, step):
@@ -269,5 +285,4 @@ def moved(floor, place, sense, step):
         raise BadSense(sense)
     if not is_within(step, -1, 1):
         raise BadStep(step)
-    reached = place_at(floor, place, sense * step)
-    return place if reached is None else reached
+    return place_behind(floor, place, sense, step)

@@ -1,7 +1,7 @@
 """What several tests need: refusals, values of other kinds, and things told anew, step by step."""
 
 from onestillview.errors import WalkError
-from onestillview.texts import Program
+from onestillview.texts import Program, thought
 
 RINGS = tuple(("ring", size) for size in range(3, 9))
 ROWS = tuple(("row", size) for size in range(1, 9))
@@ -97,3 +97,56 @@ def random_standing(chance, floor, marks=4):
         (chance.randrange(floor[1]), chance.randrange(marks), chance.choice((1, -1)))
         for _ in range(chance.randint(1, 5))
     )
+
+
+PROGRAMS = tuple(Program(text) for text in (
+    "marks 1\nstep 0\nmark 0",
+    "marks 2\nstep 1\nmark plus mine 1",
+    "marks 2\nstep pick less ahead behind 1 -1\nmark same mine 0",
+    "marks 3\nlet near less ahead behind\nstep pick count 0 pick near -1 1 turn room 1\nmark count ahead",
+    "marks 4\nstep plus marked 1 mine turn count -1\nmark plus count 0 plus half mine marked -1 0",
+    "marks 4\nlet odd less half mine half plus mine 1\nstep pick odd ahead -1\nmark pick less mine 3 0 plus mine 1",
+))
+NO_PROGRAMS = (
+    None, True, 0, 1, "", "marks 1\nstep 0\nmark 0", (), (STILL,), [STILL], {}, {"text": STILL.text}, {0: STILL},
+)
+# None of these is a LOT of three walkers.
+BAD_LOTS_OF_THREE = NO_TUPLES + (
+    (), (3,), (-1,), (0, 3), (-1, 0), (0, 0), (1, 0), (0, 2, 1), (0, 1, 1), (2, 1, 0), (0, 1, 2, 3), (0, 1, 2, 2),
+    (True,), (False,), (0, True), (None,), ("0",), ((0,),), ([0],), [0], [0, 1], (0, [1]), (0, None), {0: 0}, "012",
+    (STILL,), ((),), (0, ()), (123456789,), (-123456789, 0),
+)
+
+
+def told_beat(program, floor, standing, lot):
+    """The standing behind a beat, walker by walker."""
+    found = list(standing)
+    for walker in lot:
+        place, _, sense = standing[walker]
+        step, mark = thought(program, floor, told_view(floor, standing, walker))
+        reached = walked(floor, place, sense * step)
+        found[walker] = (place if reached is None else reached, mark, sense)
+    return tuple(found)
+
+
+def random_start(chance, most=5):
+    """Some program, floor and STANDING of at most so many walkers."""
+    program, floor = chance.choice(PROGRAMS), chance.choice(FLOORS)
+    return program, floor, random_standing(chance, floor, program.marks)[:most]
+
+
+def random_lots(chance, many, most):
+    """Some LOTS of so many walkers, of any kind, at most so many."""
+    return tuple(
+        tuple(sorted(chance.sample(range(many), chance.randint(1, many)))) for _ in range(chance.randint(0, most))
+    )
+
+
+def random_ways(chance, floor):
+    """Some (by, is_mirrored) of this floor."""
+    return chance.randrange(floor[1]) if floor[0] == "ring" else 0, chance.random() < 0.5
+
+
+def renumbered(entries, order):
+    """These entries by walkers, walker order[k] being walker k from now on."""
+    return tuple(entries[walker] for walker in order)

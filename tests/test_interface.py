@@ -5,9 +5,9 @@ import inspect
 import pathlib
 import unittest
 
-from onestillview import errors, floors, texts
+from onestillview import beats, errors, floors, halls, lamps, texts
 
-MODULES = {"errors": errors, "floors": floors, "texts": texts}
+MODULES = {"errors": errors, "floors": floors, "texts": texts, "beats": beats, "halls": halls, "lamps": lamps}
 PARAMETERS = {
     "floors": {
         "at_distance": ["floor", "place", "steps"],
@@ -23,7 +23,40 @@ PARAMETERS = {
         "thought": ["program", "floor", "view"],
         "moved": ["floor", "place", "sense", "step"],
     },
+    "beats": {
+        "beat": ["program", "floor", "standing", "lot"],
+        "run": ["program", "floor", "standing", "lots"],
+        "is_kind": ["kind", "many", "value"],
+        "eras": ["many", "lots"],
+        "left": ["many", "lots"],
+        "next_lots": ["kind", "many", "lots"],
+    },
+    "halls": {
+        "Hall": ["program", "floor", "standing"],
+        "replayed": ["program", "floor", "standing", "log"],
+        "as_beats": ["hall"],
+    },
+    "lamps": {
+        "fine_rule": [],
+        "due": ["rule", "lamp", "seen"],
+        "Lit": ["program", "floor", "standing", "rule"],
+        "lit_of": ["program", "floor", "standing", "rule", "log"],
+        "eras_of": ["lit"],
+        "patterns": ["many"],
+        "is_pattern": ["many", "value"],
+    },
 }
+# For each class its methods with their parameters, and its properties.
+METHODS = {
+    "look": ["walker"], "think": ["walker"], "step": ["walker"], "go": ["walker"], "do": ["deed"], "held": ["walker"],
+    "copy": [], "__len__": [], "__eq__": ["other"],
+}
+ATTRIBUTES = ["program", "floor", "first", "standing", "stages", "log"]
+CLASSES = (
+    ("texts", "Program", {"__eq__": ["other"]}, ["text", "marks"]),
+    ("halls", "Hall", METHODS, ATTRIBUTES),
+    ("lamps", "Lit", METHODS, ATTRIBUTES + ["lamps", "rule"]),
+)
 TEXT = "marks 2\nstep 1\nmark 1"
 STANDING = ((0, 0, 1), (1, 1, -1))
 
@@ -52,7 +85,7 @@ class InterfaceTest(unittest.TestCase):
 
     def test_arguments_are_passed_by_position_or_by_name(self):
         floor = ("row", 3)
-        program = texts.Program(TEXT)
+        program, rule = texts.Program(TEXT), lamps.fine_rule()
         seen = floors.view(floor, STANDING, 0)
         calls = (
             (floors.at_distance, (floor, 0, 2)),
@@ -65,12 +98,60 @@ class InterfaceTest(unittest.TestCase):
             (texts.program_of, (2, (("a", "1"),), "1", "a")),
             (texts.thought, (program, floor, seen)),
             (texts.moved, (floor, 0, 1, 1)),
+            (beats.beat, (program, floor, STANDING, (0,))),
+            (beats.run, (program, floor, STANDING, ((0,), (0, 1)))),
+            (beats.is_kind, ("eras", 2, ((0,), (1,)))),
+            (beats.eras, (2, ((0,), (1,)))),
+            (beats.left, (2, ((0,),))),
+            (beats.next_lots, ("eras", 2, ((0,),))),
+            (halls.Hall, (program, floor, STANDING)),
+            (halls.replayed, (program, floor, STANDING, (("look", 0),))),
+            (halls.as_beats, (halls.Hall(program, floor, STANDING),)),
+            (lamps.fine_rule, ()),
+            (lamps.due, (rule, "wait", ())),
+            (lamps.Lit, (program, floor, STANDING, rule)),
+            (lamps.lit_of, (program, floor, STANDING, rule, (("look", 0),))),
+            (lamps.eras_of, (lamps.Lit(program, floor, STANDING, rule),)),
+            (lamps.patterns, (2,)),
+            (lamps.is_pattern, (2, ("wait",))),
         )
         for call, told in calls:
             names = list(inspect.signature(call).parameters)
             by_position = call(*told)
             self.assertEqual(call(**dict(reversed(list(zip(names, told))))), by_position)
             self.assertEqual(call(*told[:1], **dict(zip(names[1:], told[1:]))), by_position)
+
+    def new_objects(self):
+        """One object of each class, by the class's name."""
+        program = texts.Program(TEXT)
+        return {
+            "Program": program,
+            "Hall": halls.Hall(program, ("row", 3), STANDING),
+            "Lit": lamps.Lit(program, ("row", 3), STANDING, lamps.fine_rule()),
+        }
+
+    def test_each_method_is_defined_in_its_own_class(self):
+        for module, name, methods, _ in CLASSES:
+            found = vars(getattr(MODULES[module], name))
+            for method, parameters in methods.items():
+                self.assertTrue(inspect.isfunction(found.get(method)), f"{name}.{method}")
+                self.assertEqual(list(inspect.signature(found[method]).parameters), ["self"] + parameters)
+
+    def test_each_attribute_is_set_when_the_object_is_created(self):
+        objects = self.new_objects()
+        for _, name, _, attributes in CLASSES:
+            self.assertLessEqual(set(attributes), set(vars(objects[name])), name)
+
+    def test_methods_take_arguments_by_name(self):
+        objects = self.new_objects()
+        for one in (objects["Hall"], objects["Lit"]):
+            one.look(walker=1)
+            self.assertEqual(one.held(walker=1), one.held(1))
+            one.think(walker=1)
+            one.step(walker=1)
+            one.go(walker=0)
+            one.do(deed=("look", 0))
+            self.assertEqual(len(one), 7)
 
     def test_programs_refuse_operators_but_equality(self):
         program = texts.Program(TEXT)
@@ -86,6 +167,10 @@ class InterfaceTest(unittest.TestCase):
             self.assertEqual(floors.twins(floor, STANDING), ((0,), (1,)))
             self.assertEqual(texts.Program(TEXT), texts.Program(TEXT))
             self.assertEqual(texts.thought(texts.Program(TEXT), floor, floors.view(floor, STANDING, 1)), (1, 1))
+            self.assertEqual(beats.next_lots("eras", 2, ((0,),)), ((1,),))
+            self.assertEqual(halls.as_beats(halls.Hall(texts.Program(TEXT), floor, STANDING)), ())
+            self.assertEqual(len(lamps.patterns(3)), 21)
+            self.assertEqual(lamps.fine_rule()[1], ((), ("wait",)))
 
     def test_the_program_needs_no_module_but_its_own(self):
         for path in pathlib.Path(errors.__file__).parent.glob("*.py"):

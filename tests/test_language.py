@@ -16,6 +16,11 @@ BUILTINS = (
     "OverflowError RuntimeError NotImplementedError AttributeError StopIteration NotImplemented"
 ).split(" ")
 AT_THE_TOP = (ast.ImportFrom, ast.FunctionDef, ast.ClassDef, ast.Assign, ast.Expr)
+# No attribute of an object of the package has one of these names.
+BARRED_ATTRIBUTES = (
+    "items keys values pop update append clear extend insert remove reverse setdefault sort args encode decode hex "
+    "fromhex format format_map mro"
+).split(" ")
 
 
 def bound_in(tree):
@@ -29,6 +34,17 @@ def bound_in(tree):
             yield part.asname or part.name
         elif isinstance(part, ast.Name) and not isinstance(part.ctx, ast.Load):
             yield part.id
+
+
+def bound_at_the_top(tree):
+    """The names that a file binds outside of all functions and classes."""
+    for part in tree.body:
+        if isinstance(part, (ast.FunctionDef, ast.ClassDef)):
+            yield part.name
+        elif isinstance(part, ast.ImportFrom):
+            yield from (alias.name for alias in part.names)
+        elif isinstance(part, ast.Assign):
+            yield from (target.id for target in part.targets)
 
 
 class LanguageTest(unittest.TestCase):
@@ -84,6 +100,59 @@ class LanguageTest(unittest.TestCase):
         for name, tree in self.trees.items():
             for bound in bound_in(tree):
                 self.assertFalse(hasattr(builtins, bound) and not bound.startswith("__"), f"{name}: {bound}")
+
+    def test_no_name_of_an_import_or_a_class_is_given_another_meaning(self):
+        for name, tree in self.trees.items():
+            taken = {part.name for part in ast.walk(tree) if isinstance(part, ast.ClassDef)}
+            for part in ast.walk(tree):
+                if isinstance(part, ast.ImportFrom):
+                    taken.update(alias.name for alias in part.names)
+            bound = [part.arg for part in ast.walk(tree) if isinstance(part, ast.arg)] + [
+                part.id for part in ast.walk(tree) if isinstance(part, ast.Name) and isinstance(part.ctx, ast.Store)
+            ]
+            self.assertEqual(taken & set(bound), set(), name)
+
+    def test_imports_name_the_file_that_defines_the_name_and_are_used(self):
+        for name, tree in self.trees.items():
+            read = {part.id for part in ast.walk(tree) if isinstance(part, ast.Name)}
+            for part in ast.walk(tree):
+                if isinstance(part, ast.ImportFrom) and part.module.startswith("onestillview."):
+                    there = list(bound_at_the_top(self.trees[part.module.split(".")[1] + ".py"]))
+                    for alias in part.names:
+                        self.assertIn(alias.name, there, name)
+                        self.assertIn(alias.name, read, name)
+
+    def test_files_do_not_import_from_each_other(self):
+        needed = {
+            name: {part.module.split(".")[-1] + ".py" for part in ast.walk(tree) if isinstance(part, ast.ImportFrom)}
+            for name, tree in self.trees.items()
+        }
+        while needed:
+            free = [name for name in needed if not needed[name] & set(needed)]
+            self.assertNotEqual(free, [], "these import from each other")
+            for name in free:
+                del needed[name]
+
+    def test_each_name_is_bound_once_at_the_top(self):
+        for name, tree in self.trees.items():
+            bound = list(bound_at_the_top(tree))
+            self.assertEqual(len(bound), len(set(bound)), name)
+
+    def test_attributes_and_methods(self):
+        for part, place in self.parts(ast.ClassDef):
+            own = {inner.attr for inner in ast.walk(part) if isinstance(inner, ast.Attribute)
+                   and isinstance(inner.value, ast.Name) and isinstance(inner.ctx, ast.Store)}
+            methods = [inner.name for inner in part.body if isinstance(inner, ast.FunctionDef)]
+            self.assertEqual(own & set(methods), set(), place)
+            self.assertEqual(own & set(BARRED_ATTRIBUTES), set(), place)
+            self.assertEqual(len(methods), len(set(methods)), place)
+
+    def test_is_stands_beside_none_and_bools_alone(self):
+        for part, place in self.parts(ast.Compare):
+            for sign, right in zip(part.ops, part.comparators):
+                if isinstance(sign, (ast.Is, ast.IsNot)):
+                    self.assertIsInstance(right, ast.Constant, place)
+                    self.assertIn(repr(right.value), ("None", "True", "False"), place)
 
     def test_no_other_builtin_is_used(self):
         for part, place in self.parts(ast.Name):
