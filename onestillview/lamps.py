@@ -117,6 +117,8 @@ class Lit:
         self.holding = (None,) * len(standing)
         # For each walker how often it has thought by the change to step.
         self.thoughts = (0,) * len(standing)
+        # (number in the log, walker, VIEW) of each look by which the change to step was due.
+        self.step_looks = ()
 
     def __eq__(self, other):
         if not isinstance(other, Lit):
@@ -132,7 +134,10 @@ class Lit:
         """The walker takes its VIEW, and the number of the change that is due, and holds both."""
         check_idle(self, walker)
         seen = view_of(self.floor, self.standing, walker)
-        note_deed(self, "look", walker, (seen, change_seen(self, walker)))
+        number = change_seen(self, walker)
+        if number == STEPPING:
+            self.step_looks = self.step_looks + ((len(self.log), walker, seen),)
+        note_deed(self, "look", walker, (seen, number))
 
     def think(self, walker):
         """The walker's lamp makes the change that was due; if it is that to step, the walker thinks."""
@@ -172,6 +177,7 @@ class Lit:
         copy_deeds(self, other)
         other.lamps = self.lamps
         other.thoughts = self.thoughts
+        other.step_looks = self.step_looks
         return other
 
 

@@ -142,6 +142,17 @@ def random_lots(chance, many, most):
     )
 
 
+def random_eras(chance, many, most):
+    """Some LOTS in eras, at most so many, the last era open or not."""
+    lots, missing = [], []
+    for _ in range(chance.randint(0, most)):
+        missing = missing or list(range(many))
+        lot = chance.sample(missing, chance.randint(1, len(missing)))
+        lots.append(tuple(sorted(lot)))
+        missing = [walker for walker in missing if walker not in lot]
+    return tuple(lots)
+
+
 def random_ways(chance, floor):
     """Some (by, is_mirrored) of this floor."""
     return chance.randrange(floor[1]) if floor[0] == "ring" else 0, chance.random() < 0.5

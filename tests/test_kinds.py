@@ -6,7 +6,7 @@ from itertools import combinations, product
 
 from onestillview.beats import eras, is_kind, left, next_lots
 from onestillview.errors import BadKind, BadLots, BadMany
-from tests.helpers import BAD_LOTS_OF_THREE, NO_NUMBERS, NO_TUPLES, STILL, Refusals, random_lots
+from tests.helpers import BAD_LOTS_OF_THREE, NO_NUMBERS, NO_TUPLES, STILL, Refusals, random_eras, random_lots
 
 KINDS = ("full", "one", "some", "eras")
 LOTS = ((0, 2), (1,), (1,), (0,))
@@ -57,17 +57,6 @@ def some_lots():
     for _ in range(500):
         many = chance.randint(1, 5)
         yield many, random_eras(chance, many, 9)
-
-
-def random_eras(chance, many, most):
-    """Some LOTS in eras, at most so many."""
-    lots, missing = [], []
-    for _ in range(chance.randint(0, most)):
-        missing = missing or list(range(many))
-        lot = chance.sample(missing, chance.randint(1, len(missing)))
-        lots.append(tuple(sorted(lot)))
-        missing = [walker for walker in missing if walker not in lot]
-    return tuple(lots)
 
 
 class KindTest(Refusals, unittest.TestCase):

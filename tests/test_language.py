@@ -3,6 +3,7 @@
 import ast
 import builtins
 import pathlib
+import re
 import unittest
 
 from onestillview import errors
@@ -20,6 +21,17 @@ AT_THE_TOP = (ast.ImportFrom, ast.FunctionDef, ast.ClassDef, ast.Assign, ast.Exp
 BARRED_ATTRIBUTES = (
     "items keys values pop update append clear extend insert remove reverse setdefault sort args encode decode hex "
     "fromhex format format_map mro"
+).split(" ")
+
+# No name of the package is one of these, and no file has one of the words but in comments and docstrings.
+BARRED_NAMES = (
+    "register mro elements open input law version_info with_traceback add_note attrgetter breakpoint builtins compile "
+    "copyright credits delattr dir eval exec exit gc globals help id importlib license locals methodcaller os quit "
+    "setattr super vars sys iter next map"
+).split(" ")
+BARRED_WORDS = (
+    "type typing typing_extensions enum Enum IntEnum StrEnum Flag IntFlag Generic Protocol ABC ABCMeta namedtuple "
+    "NamedTuple TypedDict TYPE_CHECKING abstractmethod dataclass overload contextmanager"
 ).split(" ")
 
 
@@ -169,6 +181,37 @@ class LanguageTest(unittest.TestCase):
                 self.assertNotIsInstance(part.value, (float, complex), place)
             if isinstance(part, ast.ClassDef):
                 self.assertEqual(part.decorator_list, [], place)
+
+    def test_no_barred_name_is_bound(self):
+        for name, tree in self.trees.items():
+            self.assertEqual(set(bound_in(tree)) & set(BARRED_NAMES), set(), name)
+        for part, place in self.parts(ast.Attribute):
+            self.assertNotIn(part.attr, BARRED_NAMES[:9], place)
+
+    def test_no_barred_word_stands_in_strings_or_names(self):
+        docstrings = set()
+        for name, tree in self.trees.items():
+            for part in ast.walk(tree):
+                if isinstance(part, (ast.Module, ast.ClassDef, ast.FunctionDef)) and ast.get_docstring(part):
+                    docstrings.add(id(part.body[0].value))
+            for part in ast.walk(tree):
+                words = []
+                if isinstance(part, ast.Constant) and isinstance(part.value, str) and id(part) not in docstrings:
+                    words = re.findall(r"\w+", part.value)
+                elif isinstance(part, ast.Name):
+                    words = [part.id]
+                elif isinstance(part, ast.Attribute):
+                    words = [part.attr]
+                self.assertEqual(set(words) & set(BARRED_WORDS), set(), f"{name}: {words}")
+
+    def test_what_stands_behind_a_trial(self):
+        """A finally block assigns names and attributes alone, in an if over None at most."""
+        simple = (ast.Name, ast.Attribute, ast.Tuple, ast.Load, ast.Store, ast.Assign, ast.If, ast.Compare, ast.Is,
+                  ast.IsNot, ast.Constant)
+        for part, place in self.parts(ast.Try):
+            for statement in part.finalbody:
+                for inner in ast.walk(statement):
+                    self.assertIsInstance(inner, simple, place)
 
     def test_builtins_take_lists_instead_of_generators(self):
         for part, place in self.parts(ast.Call):
