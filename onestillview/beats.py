@@ -104,10 +104,10 @@ def left(many, lots):
     return tuple([walker for walker in range(many) if len(present) == many or walker not in present])
 
 
-def lots_among(many):
-    """Each single lot of so many walkers, ascending."""
+def lots_among(walkers):
+    """Each single lot of these walkers, both ascending."""
     found = []
-    for walker in range(many):
+    for walker in walkers:
         found = found + [(*lot, walker) for lot in found] + [(walker,)]
     return sorted(found)
 
@@ -117,4 +117,4 @@ def next_lots(kind, many, lots):
     check_kind(kind)
     check_many(many)
     check_lots(kind, many, lots)
-    return tuple([lot for lot in lots_among(many) if is_of_kind(kind, many, (*lots, lot))])
+    return tuple([lot for lot in lots_among(range(many)) if is_of_kind(kind, many, (*lots, lot))])

@@ -37,12 +37,17 @@ def has_only(signs, word):
     return word != "" and all([sign in signs for sign in word])
 
 
-def is_figures(word):
-    """Whether Python writes an integer from -99 to 99 so."""
+def is_written(word, most):
+    """Whether Python writes an integer of so many figures at most so."""
     figures = word.removeprefix("-")
-    if len(figures) > 2 or not has_only(FIGURES, figures):
+    if len(figures) > most or not has_only(FIGURES, figures):
         return False
     return word == "0" or not figures.startswith("0")
+
+
+def is_figures(word):
+    """Whether Python writes an integer from -99 to 99 so."""
+    return is_written(word, 2)
 
 
 def is_new_name(word, names):

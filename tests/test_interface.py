@@ -1,13 +1,17 @@
-"""The interface as far as it has landed: names, parameters, and the files in which they are defined."""
+"""The interface: names, parameters, and the files in which they are defined."""
 
 import ast
 import inspect
 import pathlib
 import unittest
 
-from onestillview import beats, errors, floors, halls, lamps, texts
+from onestillview import beats, benches, bringing, desk, errors, floors, halls, journals, lamps, rules, texts, told
+from onestillview import worlds
 
-MODULES = {"errors": errors, "floors": floors, "texts": texts, "beats": beats, "halls": halls, "lamps": lamps}
+MODULES = {
+    "errors": errors, "floors": floors, "texts": texts, "beats": beats, "halls": halls, "lamps": lamps, "told": told,
+    "bringing": bringing, "rules": rules, "worlds": worlds, "benches": benches, "journals": journals, "desk": desk,
+}
 PARAMETERS = {
     "floors": {
         "at_distance": ["floor", "place", "steps"],
@@ -45,6 +49,44 @@ PARAMETERS = {
         "patterns": ["many"],
         "is_pattern": ["many", "value"],
     },
+    "told": {
+        "told_lots": ["lit"],
+        "told_run": ["lit"],
+        "told_at": ["lit", "many"],
+        "views_of": ["lit", "number"],
+        "pending": ["lit"],
+        "times": ["lit", "walker"],
+        "settled": ["lit"],
+        "is_grown": ["one", "other"],
+        "is_told": ["program", "floor", "standing", "log", "value"],
+    },
+    "bringing": {
+        "brought": ["program", "floor", "standing", "lots"],
+        "shows_brought": ["program", "floor", "standing", "lots", "value"],
+        "least_deeds": ["many", "lots"],
+        "deeds_of": ["many", "sizes"],
+    },
+    "rules": {
+        "faults": ["rule", "many"],
+        "fault": ["rule", "many", "word"],
+        "shows_fault": ["rule", "many", "word", "value"],
+        "broken": ["rule", "many", "weaving"],
+        "lesser": ["rule"],
+        "needed": ["rule", "many"],
+    },
+    "worlds": {
+        "meets": ["floor", "standing", "claim"],
+        "come_to": ["kind", "program", "floor", "standing", "most"],
+        "holds": ["kind", "program", "floor", "standing", "claim", "most"],
+        "shows_holds": ["kind", "program", "floor", "standing", "claim", "most", "value"],
+        "surely": ["kind", "program", "floor", "standing", "claim", "most"],
+        "shows_surely": ["kind", "program", "floor", "standing", "claim", "most", "value"],
+        "astray": ["program", "floor", "standing", "most"],
+        "shows_astray": ["program", "floor", "standing", "most", "value"],
+    },
+    "benches": {"Bench": ["text", "floor", "standing"]},
+    "journals": {"journal": ["bench"], "read_journal": ["text"]},
+    "desk": {"Desk": ["text"]},
 }
 # For each class its methods with their parameters, and its properties.
 METHODS = {
@@ -52,10 +94,18 @@ METHODS = {
     "copy": [], "__len__": [], "__eq__": ["other"],
 }
 ATTRIBUTES = ["program", "floor", "first", "standing", "stages", "log"]
+BENCH_METHODS = {
+    "look": ["walker"], "think": ["walker"], "step": ["walker"], "go": ["walker"], "turns": ["many"],
+    "stand": ["standing"], "lit_now": [], "undo": [], "redo": [], "tried": ["look", "keep"], "keep": [], "copy": [],
+    "__len__": [], "__eq__": ["other"],
+}
+BENCH_ATTRIBUTES = ["program", "floor", "standing", "stages", "lamps", "deeds"]
 CLASSES = (
     ("texts", "Program", {"__eq__": ["other"]}, ["text", "marks"]),
     ("halls", "Hall", METHODS, ATTRIBUTES),
     ("lamps", "Lit", METHODS, ATTRIBUTES + ["lamps", "rule"]),
+    ("benches", "Bench", BENCH_METHODS, BENCH_ATTRIBUTES),
+    ("desk", "Desk", {"say": ["line"]}, ["bench"]),
 )
 TEXT = "marks 2\nstep 1\nmark 1"
 STANDING = ((0, 0, 1), (1, 1, -1))
@@ -114,20 +164,71 @@ class InterfaceTest(unittest.TestCase):
             (lamps.eras_of, (lamps.Lit(program, floor, STANDING, rule),)),
             (lamps.patterns, (2,)),
             (lamps.is_pattern, (2, ("wait",))),
-        )
-        for call, told in calls:
+        ) + self.later_calls(program, floor, rule)
+        self.assertEqual({call for call, _ in calls}, {
+            getattr(MODULES[name], function) for name, functions in PARAMETERS.items() for function in functions
+        } - {desk.Desk})
+        for call, values in calls:
             names = list(inspect.signature(call).parameters)
-            by_position = call(*told)
-            self.assertEqual(call(**dict(reversed(list(zip(names, told))))), by_position)
-            self.assertEqual(call(*told[:1], **dict(zip(names[1:], told[1:]))), by_position)
+            by_position = call(*values)
+            self.assertEqual(call(**dict(reversed(list(zip(names, values))))), by_position)
+            self.assertEqual(call(*values[:1], **dict(zip(names[1:], values[1:]))), by_position)
+
+    def later_calls(self, program, floor, rule):
+        """Calls of the functions that stand on Lits."""
+        log = bringing.brought(program, floor, STANDING, ((0,), (1,)))
+        lit, claim = lamps.lit_of(program, floor, STANDING, rule, log), ("apart",)
+        bench = benches.Bench(TEXT, floor, STANDING)
+        return (
+            (told.told_lots, (lit,)),
+            (told.told_run, (lit,)),
+            (told.told_at, (lit, 20)),
+            (told.views_of, (lit, 1)),
+            (told.pending, (lit,)),
+            (told.times, (lit, 1)),
+            (told.settled, (lit,)),
+            (told.is_grown, (((0,),), ((0, 1),))),
+            (told.is_told, (program, floor, STANDING, log, ((0,), (1,)))),
+            (bringing.brought, (program, floor, STANDING, ((0,),))),
+            (bringing.shows_brought, (program, floor, STANDING, ((0,), (1,)), log)),
+            (bringing.least_deeds, (2, ((0,), (1,)))),
+            (bringing.deeds_of, (9, (1, 8))),
+            (rules.faults, (rule, 2)),
+            (rules.fault, (rule, 2, "views")),
+            (rules.shows_fault, (rule, 2, "views", None)),
+            (rules.broken, (rule, 2, log)),
+            (rules.lesser, (rule,)),
+            (rules.needed, (rule, 2)),
+            (worlds.meets, (floor, STANDING, claim)),
+            (worlds.come_to, ("own", program, floor, STANDING, 99)),
+            (worlds.holds, ("lit", program, floor, STANDING, claim, 99)),
+            (worlds.shows_holds, ("lit", program, floor, STANDING, claim, 99, ("breaks", log))),
+            (worlds.surely, ("eras", program, floor, STANDING, ("together",), 99)),
+            (worlds.shows_surely, ("eras", program, floor, STANDING, claim, 99, ("surely", 0))),
+            (worlds.astray, (program, floor, STANDING, 99)),
+            (worlds.shows_astray, (program, floor, STANDING, 99, None)),
+            (benches.Bench, (TEXT, floor, STANDING)),
+            (journals.journal, (bench,)),
+            (journals.read_journal, (journals.journal(bench),)),
+        )
+
+    def test_desks_take_arguments_by_name(self):
+        text = journals.journal(benches.Bench(TEXT, ("row", 3), STANDING))
+        one, other = desk.Desk(text), desk.Desk(text=text)
+        self.assertEqual(one.bench, other.bench)
+        self.assertEqual(other.say(line="go 1"), one.say("go 1"))
+        self.assertEqual(one.bench, other.bench)
 
     def new_objects(self):
         """One object of each class, by the class's name."""
         program = texts.Program(TEXT)
+        bench = benches.Bench(TEXT, ("row", 3), STANDING)
         return {
             "Program": program,
             "Hall": halls.Hall(program, ("row", 3), STANDING),
             "Lit": lamps.Lit(program, ("row", 3), STANDING, lamps.fine_rule()),
+            "Bench": bench,
+            "Desk": desk.Desk(journals.journal(bench)),
         }
 
     def test_each_method_is_defined_in_its_own_class(self):
@@ -152,6 +253,20 @@ class InterfaceTest(unittest.TestCase):
             one.go(walker=0)
             one.do(deed=("look", 0))
             self.assertEqual(len(one), 7)
+        bench = objects["Bench"]
+        bench.look(walker=1)
+        bench.think(walker=1)
+        bench.step(walker=1)
+        bench.go(walker=0)
+        bench.turns(many=1)
+        bench.stand(standing=STANDING)
+        self.assertEqual(bench.tried(look=len, keep=False), 0)
+        self.assertEqual(bench.deeds, 6)
+
+    def test_keep_is_by_name_and_false_by_itself(self):
+        parameters = inspect.signature(benches.Bench.tried).parameters
+        self.assertIs(parameters["keep"].kind, inspect.Parameter.KEYWORD_ONLY)
+        self.assertIs(parameters["keep"].default, False)
 
     def test_programs_refuse_operators_but_equality(self):
         program = texts.Program(TEXT)
