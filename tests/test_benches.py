@@ -471,7 +471,7 @@ class TriedTest(BenchCase):
             for _ in range(5):
                 self.try_some(chance, bench, mirror, 3)
                 self.assert_as_mirror(bench, mirror)
-                self.assertEqual(refusal(bench.redo, *()) is None, bool(mirror.undone))
+                self.assertEqual(refusal(bench.redo), mirror.refusal("redo", None))
                 if mirror.undone:
                     mirror.do("redo", None)
 

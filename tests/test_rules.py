@@ -257,11 +257,12 @@ class BrokenTest(unittest.TestCase):
             for word in ("views", "once"):
                 weaving = fault(OPEN, many, word)
                 self.assertIn(word, broken(OPEN, many, weaving))
-                further = weaving + (("think", weaving[-1][1]),) if word == "views" else weaving
-                for deed in () if word == "views" else drawn_weaving(chance, OPEN, many, 60):
-                    if judged(OPEN, many, further + (deed,)) is not None:
-                        further = further + (deed,)
-                self.assertIn(word, self.assert_broken(OPEN, many, further))
+                later = 0
+                for _ in range(20):
+                    further = drawn_weaving(chance, OPEN, many, 60, weaving)
+                    self.assertIn(word, self.assert_broken(OPEN, many, further))
+                    later += not shows_fault(OPEN, many, word, further)
+                self.assertGreater(later, 0)
 
     def test_stuck_at_the_end_alone(self):
         # Both try; then nothing is due. A look and a think change nothing, but they aren't idle.
