@@ -117,4 +117,4 @@ def next_lots(kind, many, lots):
     check_kind(kind)
     check_many(many)
     check_lots(kind, many, lots)
-    return tuple([lot for lot in lots_among(range(many)) if is_of_kind(kind, many, (*lots, lot))])
+    return tuple([lot for lot in lots_among(list(range(many))) if is_of_kind(kind, many, (*lots, lot))])

@@ -36,7 +36,8 @@ def deeds_behind_lot(many, lot, remaining):
     # While all of the lot still show that they step, the others wait again; only then the lot can be done.
     found = whole_cycles(others) + whole_cycles(lot)
     if not others:
-        found = found + whole_cycles(range(many)) + whole_cycles(range(many))
+        everybody = list(range(many))
+        found = found + whole_cycles(everybody) + whole_cycles(everybody)
     return found
 
 

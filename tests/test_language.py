@@ -16,6 +16,8 @@ BUILTINS = (
     "classmethod Exception ValueError TypeError KeyError IndexError LookupError ZeroDivisionError ArithmeticError "
     "OverflowError RuntimeError NotImplementedError AttributeError StopIteration NotImplemented"
 ).split(" ")
+# These walk what they are first passed.
+WALKERS = ("list", "tuple", "dict", "sorted", "sum", "any", "all", "enumerate", "zip", "bytes")
 AT_THE_TOP = (ast.ImportFrom, ast.FunctionDef, ast.ClassDef, ast.Assign, ast.Expr)
 # No attribute of an object of the package has one of these names.
 BARRED_ATTRIBUTES = (
@@ -57,6 +59,56 @@ def bound_at_the_top(tree):
             yield from (alias.name for alias in part.names)
         elif isinstance(part, ast.Assign):
             yield from (target.id for target in part.targets)
+
+
+def is_call_of(part, names):
+    """Whether a part of a file calls one of these builtins by its name."""
+    return isinstance(part, ast.Call) and isinstance(part.func, ast.Name) and part.func.id in names
+
+
+def goes_over(part):
+    """The word for what a part of a file goes over one by one, such as range or items, None if it does not."""
+    if is_call_of(part, ("range", "zip", "enumerate", "reversed")):
+        return part.func.id
+    if isinstance(part, ast.Call) and isinstance(part.func, ast.Attribute) and not part.args:
+        return part.func.attr if part.func.attr in ("items", "keys", "values") else None
+    return None
+
+
+def is_walked_by_call(call, part):
+    """Whether a call walks this part, one of its arguments, on the spot."""
+    if not call.args or part is not call.args[0]:
+        return False
+    word = goes_over(part)
+    if is_call_of(call, ("len",)):
+        return word in ("range", "items", "keys", "values")
+    if is_call_of(call, ("min", "max")):
+        return len(call.args) == 1 and all(keyword.arg == "default" for keyword in call.keywords)
+    if isinstance(call.func, ast.Attribute):
+        return call.func.attr == "join" and isinstance(call.func.value, ast.Constant)
+    return is_call_of(call, WALKERS) or is_call_of(call, ("reversed",)) and word == "range"
+
+
+def is_walked_by(around, part):
+    """Whether the part around this one walks it on the spot."""
+    if isinstance(around, (ast.For, ast.comprehension)):
+        return part is around.iter
+    if isinstance(around, ast.Compare):
+        # Only what stands behind the last sign is sure not to be compared with anything else.
+        return (part is around.comparators[-1] and isinstance(around.ops[-1], (ast.In, ast.NotIn))
+                and goes_over(part) in ("range", "keys"))
+    return isinstance(around, ast.Call) and is_walked_by_call(around, part)
+
+
+def not_walked_at_once(tree):
+    """The lines of what goes over something one by one, but is handed on or kept instead of walked on the spot."""
+    found = []
+    for around in ast.walk(tree):
+        for part in ast.iter_child_nodes(around):
+            # A keyword's value has the keyword around it, which walks nothing.
+            if goes_over(part) and not is_walked_by(around, part):
+                found.append(part.lineno)
+    return sorted(found)
 
 
 class LanguageTest(unittest.TestCase):
@@ -217,6 +269,34 @@ class LanguageTest(unittest.TestCase):
         for part, place in self.parts(ast.Call):
             for told in part.args:
                 self.assertNotIsInstance(told, ast.GeneratorExp, place)
+
+    def test_ranges_and_the_like_are_walked_on_the_spot(self):
+        # The subset lets a plain name keep some of them; the package does without.
+        for name, tree in self.trees.items():
+            self.assertEqual(not_walked_at_once(tree), [], name)
+
+    def test_what_is_walked_on_the_spot_is_told_from_what_is_not(self):
+        walked = (
+            "for at in range(many): pass", "found = [at for at in reversed(lots)]", "found = list(range(many))",
+            "found = lots_among(list(range(many)))", "found = min(table.values(), default=0)", "k = len(table.items())",
+            "found = {at: one for at, one in enumerate(zip(lots, rest))}", "found = at in range(many)",
+            "found = sum(range(many), start=1)", "found = at not in table.keys()", "found = ', '.join(table.keys())",
+            "found = list(reversed(range(many)))",
+        )
+        for text in walked:
+            self.assertEqual(not_walked_at_once(ast.parse(text)), [], text)
+        for word in ("range(many)", "zip(lots, rest)", "enumerate(lots)", "reversed(lots)", "table.items()",
+                     "table.keys()", "table.values()"):
+            for text in ("lots_among(WORD)", "desk.answer(1, WORD)", "lots_among(walkers=WORD)", "found = WORD",
+                         "found = [WORD]", "found = (WORD, 1)", "lots_among(*WORD)", "return WORD", "self.kept = WORD",
+                         "found = WORD == lots", "found = zip_of(lots, WORD)", "found = list(zip(lots, WORD))",
+                         "found = set(WORD)", "found = WORD or lots", "found = max(1, WORD)", "found = word.join(WORD)",
+                         "found = max(WORD, key=len)"):
+                row = text.replace("WORD", word)
+                self.assertEqual(not_walked_at_once(ast.parse(row)), [1], row)
+        for text in ("k = len(zip(lots, rest))", "found = list(reversed(table.items()))", "k = 1 in table.values()",
+                     "k = 1 in zip(lots, rest)"):
+            self.assertEqual(not_walked_at_once(ast.parse(text)), [1], text)
 
 
 if __name__ == "__main__":
